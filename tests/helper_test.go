@@ -1,0 +1,96 @@
+package tests
+
+import (
+	"math"
+	"testing"
+
+	"loop.example/g01181/impl"
+)
+
+// bits32 returns the number with the given bits, without the help of impl.
+func bits32(n uint32) float32 { return math.Float32frombits(n) }
+
+// nan32, inf32 and minusZero are numbers that a Go literal cannot have.
+func nan32() float32     { return float32(math.NaN()) }
+func inf32() float32     { return float32(math.Inf(1)) }
+func minusZero() float32 { return float32(math.Copysign(0, -1)) }
+
+// sameBits reports whether two numbers are the same, without the help of impl.
+func sameBits(a, b float32) bool {
+	if a != a || b != b {
+		return a != a && b != b
+	}
+	return math.Float32bits(a) == math.Float32bits(b)
+}
+
+// isNumber fails the test unless got and want are the same.
+func isNumber(t *testing.T, what string, got, want float32) {
+	t.Helper()
+	if !sameBits(got, want) {
+		t.Errorf("%s: got %v (%08x), want %v (%08x)", what, got, math.Float32bits(got), want, math.Float32bits(want))
+	}
+}
+
+// isComplex fails the test unless both parts of got and want are the same.
+func isComplex(t *testing.T, what string, got, want complex64) {
+	t.Helper()
+	isNumber(t, what+", real part", real(got), real(want))
+	isNumber(t, what+", imaginary part", imag(got), imag(want))
+}
+
+// isEqual fails the test unless got is want.
+func isEqual[T comparable](t *testing.T, what string, got, want T) {
+	t.Helper()
+	if got != want {
+		t.Errorf("%s: got %v, want %v", what, got, want)
+	}
+}
+
+// oddNumbers returns numbers at the edges of the format and some ordinary ones.
+func oddNumbers() []float32 {
+	return []float32{
+		0, minusZero(), 1, -1, 0.5, 3, -7.25, nan32(), bits32(0xffc00001), inf32(), -inf32(),
+		math.MaxFloat32, -math.MaxFloat32, math.SmallestNonzeroFloat32, -math.SmallestNonzeroFloat32, bits32(0x00800000),
+	}
+}
+
+// oddComplexes returns all pairs of odd numbers.
+func oddComplexes() []complex64 {
+	var list []complex64
+	for _, a := range oddNumbers() {
+		for _, b := range oddNumbers() {
+			list = append(list, complex(a, b))
+		}
+	}
+	return list
+}
+
+// ones returns count complex numbers 1.
+func ones(count int) []complex64 {
+	list := make([]complex64, count)
+	for i := range list {
+		list[i] = 1
+	}
+	return list
+}
+
+// sameList reports whether two lists have the same numbers, without impl.
+func sameList(a, b []complex64) bool {
+	if len(a) != len(b) {
+		return false
+	}
+	for i := range a {
+		if !sameBits(real(a[i]), real(b[i])) || !sameBits(imag(a[i]), imag(b[i])) {
+			return false
+		}
+	}
+	return true
+}
+
+// The limits are part of the interface of chapter 1.
+func TestLimitsOfChapter1(t *testing.T) {
+	isEqual(t, "MaxNumbers", impl.MaxNumbers, 64)
+	isEqual(t, "MaxValue", impl.MaxValue, 1000000000000000)
+	isEqual(t, "MaxItems", impl.MaxItems, 64)
+	isEqual(t, "CheckSize", impl.CheckSize, 65003)
+}
