@@ -289,14 +289,11 @@ func DotComplex(a, b []complex64) (complex64, bool) {
 // DotConjugate returns the sum of the products of the conjugates of the numbers
 // of a and the numbers of b.
 func DotConjugate(a, b []complex64) (complex64, bool) {
-	if len(a) != len(b) || len(a) > MaxNumbers {
-		return 0, false
-	}
-	var sum complex64
+	conjugates := make([]complex64, len(a))
 	for i, x := range a {
-		sum += MulComplex(ConjugateOf(x), b[i])
+		conjugates[i] = ConjugateOf(x)
 	}
-	return sum, true
+	return DotComplex(conjugates, b)
 }
 
 // PowersOf returns the sum of powers.
