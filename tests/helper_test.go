@@ -2,6 +2,7 @@ package tests
 
 import (
 	"math"
+	"slices"
 	"testing"
 
 	"loop.example/g01181/impl"
@@ -43,6 +44,15 @@ func isEqual[T comparable](t *testing.T, what string, got, want T) {
 	t.Helper()
 	if got != want {
 		t.Errorf("%s: got %v, want %v", what, got, want)
+	}
+}
+
+// isResult fails the test unless a call has succeeded with the list want, or has
+// failed with an empty one where want is nil.
+func isResult[T comparable](t *testing.T, what string, got []T, ok bool, want []T) {
+	t.Helper()
+	if ok != (want != nil) || !slices.Equal(got, want) {
+		t.Errorf("%s: got %v, %v, want %v", what, got, ok, want)
 	}
 }
 
@@ -93,4 +103,17 @@ func TestLimitsOfChapter1(t *testing.T) {
 	isEqual(t, "MaxValue", impl.MaxValue, 1000000000000000)
 	isEqual(t, "MaxItems", impl.MaxItems, 64)
 	isEqual(t, "CheckSize", impl.CheckSize, 65003)
+}
+
+// farIntegers returns integers far from all limits.
+func farIntegers() []int64 {
+	return []int64{math.MinInt64, math.MinInt64 + 1, -1 << 62, -1 << 32, 1 << 31, 1 << 32, 1 << 62, math.MaxInt64 - 1, math.MaxInt64}
+}
+
+// The limits are part of the interface of chapter 2.
+func TestLimitsOfChapter2(t *testing.T) {
+	isEqual(t, "MaxElements", impl.MaxElements, 16)
+	isEqual(t, "MaxPlace", impl.MaxPlace, 4096)
+	isEqual(t, "MaxMarks", impl.MaxMarks, 7)
+	isEqual(t, "MaxRuler", impl.MaxRuler, 30)
 }
