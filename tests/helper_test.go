@@ -117,3 +117,8 @@ func TestLimitsOfChapter2(t *testing.T) {
 	isEqual(t, "MaxMarks", impl.MaxMarks, 7)
 	isEqual(t, "MaxRuler", impl.MaxRuler, 30)
 }
+
+// The limit is part of the interface of chapter 3.
+func TestLimitsOfChapter3(t *testing.T) {
+	isEqual(t, "MaxDrop", impl.MaxDrop, 2000)
+}
