@@ -289,11 +289,16 @@ func DotComplex(a, b []complex64) (complex64, bool) {
 // DotConjugate returns the sum of the products of the conjugates of the numbers
 // of a and the numbers of b.
 func DotConjugate(a, b []complex64) (complex64, bool) {
-	conjugates := make([]complex64, len(a))
-	for i, x := range a {
+	return DotComplex(conjugatesOf(a), b)
+}
+
+// conjugatesOf returns the conjugates of all numbers of a list.
+func conjugatesOf(list []complex64) []complex64 {
+	conjugates := make([]complex64, len(list))
+	for i, x := range list {
 		conjugates[i] = ConjugateOf(x)
 	}
-	return DotComplex(conjugates, b)
+	return conjugates
 }
 
 // PowersOf returns the sum of powers.

@@ -122,3 +122,12 @@ func TestLimitsOfChapter2(t *testing.T) {
 func TestLimitsOfChapter3(t *testing.T) {
 	isEqual(t, "MaxDrop", impl.MaxDrop, 2000)
 }
+
+// The limits and kinds are part of the interface of chapter 4.
+func TestLimitsOfChapter4(t *testing.T) {
+	isEqual(t, "MaxZeros", impl.MaxZeros, 15)
+	isEqual(t, "TaperEven", impl.TaperEven, 0)
+	isEqual(t, "TaperTriangle", impl.TaperTriangle, 1)
+	isEqual(t, "TaperCosine", impl.TaperCosine, 2)
+	isEqual(t, "TaperBinomial", impl.TaperBinomial, 3)
+}
