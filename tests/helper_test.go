@@ -131,3 +131,9 @@ func TestLimitsOfChapter4(t *testing.T) {
 	isEqual(t, "TaperCosine", impl.TaperCosine, 2)
 	isEqual(t, "TaperBinomial", impl.TaperBinomial, 3)
 }
+
+// The limits are part of the interface of chapter 5.
+func TestLimitsOfChapter5(t *testing.T) {
+	isEqual(t, "MaxSize", impl.MaxSize, 8)
+	isEqual(t, "MaxBounds", impl.MaxBounds, 4)
+}
