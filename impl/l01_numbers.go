@@ -116,7 +116,8 @@ func MulComplex(x, y complex64) complex64 {
 
 // ScaleComplex returns the product of a complex number and a number.
 func ScaleComplex(x complex64, by float32) complex64 {
-	return complex(real(x)*by, imag(x)*by)
+	// Converted, like those of wide, for callers who add the products to something.
+	return complex(float32(real(x)*by), float32(imag(x)*by))
 }
 
 // ConjugateOf returns the conjugate.

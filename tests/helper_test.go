@@ -137,3 +137,11 @@ func TestLimitsOfChapter5(t *testing.T) {
 	isEqual(t, "MaxSize", impl.MaxSize, 8)
 	isEqual(t, "MaxBounds", impl.MaxBounds, 4)
 }
+
+// The limits are part of the interface of chapter 6.
+func TestLimitsOfChapter6(t *testing.T) {
+	isEqual(t, "MaxSources", impl.MaxSources, 4)
+	isEqual(t, "MaxShots", impl.MaxShots, 64)
+	isEqual(t, "ShotBlock", impl.ShotBlock, 4)
+	isEqual(t, "MaxShotWorkers", impl.MaxShotWorkers, 8)
+}
