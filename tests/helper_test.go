@@ -145,3 +145,8 @@ func TestLimitsOfChapter6(t *testing.T) {
 	isEqual(t, "ShotBlock", impl.ShotBlock, 4)
 	isEqual(t, "MaxShotWorkers", impl.MaxShotWorkers, 8)
 }
+
+// The limit is part of the interface of chapter 7.
+func TestLimitsOfChapter7(t *testing.T) {
+	isEqual(t, "MaxTurns", impl.MaxTurns, 60)
+}
