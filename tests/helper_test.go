@@ -150,3 +150,10 @@ func TestLimitsOfChapter6(t *testing.T) {
 func TestLimitsOfChapter7(t *testing.T) {
 	isEqual(t, "MaxTurns", impl.MaxTurns, 60)
 }
+
+// The limits are part of the interface of chapter 9.
+func TestLimitsOfChapter9(t *testing.T) {
+	isEqual(t, "MaxBeams", impl.MaxBeams, 7)
+	isEqual(t, "MaxTick", impl.MaxTick, 10000)
+	isEqual(t, "MaxSlots", impl.MaxSlots, 200)
+}
