@@ -157,3 +157,8 @@ func TestLimitsOfChapter9(t *testing.T) {
 	isEqual(t, "MaxTick", impl.MaxTick, 10000)
 	isEqual(t, "MaxSlots", impl.MaxSlots, 200)
 }
+
+// The limit is part of the interface of chapter 10.
+func TestLimitsOfChapter10(t *testing.T) {
+	isEqual(t, "MaxRecord", impl.MaxRecord, 64)
+}
